@@ -1,0 +1,1 @@
+"""Clocked machines made of smaller ones."""
