@@ -19,6 +19,20 @@ def is_tuple_of(thing, least, most):
     return isinstance(thing, tuple) and least <= len(thing) <= most
 
 
+def are_numbers_below(thing, limits):
+    """Whether any value is a tuple with a number below each of the limits, in their order."""
+    if not is_tuple_of(thing, len(limits), len(limits)):
+        return False
+    return all([is_number_below(number, limit) for number, limit in zip(thing, limits)])
+
+
+def is_table(thing, letters):
+    """Whether any value is a table with so many letters."""
+    if not is_tuple_of(thing, 1, MOST_STANDINGS):
+        return False
+    return all([are_numbers_below(standing, [len(thing)] * letters) for standing in thing])
+
+
 def need_machine(thing):
     """The thing itself, if it is a machine."""
     if not is_tuple_of(thing, 2, 2):
@@ -60,6 +74,12 @@ def need_standing(machine, standing):
     """Refuses what is no number of a standing of a machine."""
     if not is_number_below(standing, len(machine[0])):
         raise BadStanding(standing)
+
+
+def is_word(machine, thing):
+    """Whether any value is a word of a machine."""
+    letters = len(machine[0][0])
+    return is_tuple_of(thing, 0, LONGEST_WORD) and are_numbers_below(thing, [letters] * len(thing))
 
 
 def need_word(machine, word):

@@ -33,6 +33,16 @@ def numbered(names):
     return tuple([numbers[name] for name in names])
 
 
+def put_together(names, one, far):
+    """Names for standings that give all that was named as either of two standings one name."""
+    return [names[one] if name == names[far] else name for name in names]
+
+
+def common_meet(partings):
+    """The meet of one parting or more."""
+    return numbered(list(zip(*partings)))
+
+
 def single(machine):
     """The parting that has each standing by itself."""
     need_machine(machine)
@@ -64,7 +74,7 @@ def meet(machine, parting, other):
     """The parting that has together what is so in both partings."""
     need_parting(machine, parting)
     need_parting(machine, other)
-    return numbered(list(zip(parting, other)))
+    return common_meet([parting, other])
 
 
 def join(machine, parting, other):
@@ -73,10 +83,8 @@ def join(machine, parting, other):
     need_parting(machine, other)
     names = list(parting)
     for standing, block in enumerate(other):
-        # What is together in the other one gets one name, with all that had either name.
-        kept_name = names[other.index(block)]
-        lost_name = names[standing]
-        names = [kept_name if name == lost_name else name for name in names]
+        # The first standing of a block of the other one lends its name to the whole block.
+        names = put_together(names, other.index(block), standing)
     return numbered(names)
 
 

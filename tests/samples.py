@@ -1,7 +1,10 @@
-"""Machines, odd values and checks that the tests share."""
+"""Machines, odd values, plain trials and checks that the tests share."""
 
 from copy import deepcopy
+from functools import lru_cache
 from itertools import product
+
+from keptpartings.partings import all_partings
 
 SIX = (((1,), (2,), (3,), (4,), (5,), (0,)), (0, 0, 0, 0, 0, 1))
 FOUR = (((1,), (2,), (3,), (0,)), (0, 0, 0, 1))
@@ -24,6 +27,135 @@ def turning(standings, letters=1):
     """A machine in which each letter leads a number of standings on."""
     table = tuple(tuple((at + step) % standings for step in range(1, letters + 1)) for at in range(standings))
     return (table, tuple(at % 10 for at in range(standings)))
+
+
+def leading(*standings):
+    """A machine whose standings are led so; it shows 0 everywhere."""
+    return (standings, (0,) * len(standings))
+
+
+def resetting(standings, letters=1):
+    """A machine in which each letter leads all standings to a single one."""
+    return leading(*[tuple(letter % standings for letter in range(letters))] * standings)
+
+
+def staying(standings, letters=1):
+    """A machine in which each letter leads each standing to itself."""
+    return leading(*[(at,) * letters for at in range(standings)])
+
+
+def beside(machine, other):
+    """The machine made of two with as many letters, side by side."""
+    many = len(other[0])
+    return leading(*[
+        tuple(one * many + far for one, far in zip(standing, other_standing))
+        for standing in machine[0] for other_standing in other[0]
+    ])
+
+
+def strewn(standings, letters, seed):
+    """A machine whose letters lead anywhere, always the same for the same seed."""
+    numbers = []
+    for _ in range(standings * letters):
+        seed = (seed * 1103515245 + 12345) % 2 ** 31
+        numbers.append((seed >> 16) % standings)
+    return leading(*[tuple(numbers[at * letters:(at + 1) * letters]) for at in range(standings)])
+
+
+def all_machines(standings, letters):
+    """Each machine with so many standings and letters that shows 0 everywhere."""
+    goals = list(product(range(standings), repeat=letters))
+    return [leading(*table) for table in product(goals, repeat=standings)]
+
+
+@lru_cache(maxsize=None)
+def small_machines():
+    """Machines of all kinds, none with more than six standings."""
+    machines = [SIX, FOUR, ONE, leading((0, 0, 0, 0))]
+    for standings, letters in ((1, 2), (2, 1), (2, 2), (3, 1)):
+        machines += all_machines(standings, letters)
+    machines += all_machines(4, 1)[::7] + all_machines(3, 2)[::23]
+    for standings in (2, 3, 4, 5):
+        for letters in (1, 2, 4):
+            machines += [make(standings, letters) for make in (turning, resetting, staying)]
+    machines += [beside(turning(2), turning(2)), beside(turning(2), resetting(2)), beside(turning(2), turning(3))]
+    machines += [beside(turning(2, 2), resetting(3, 2)), beside(resetting(2, 2), staying(2, 2))]
+    machines += [strewn(4 + seed % 3, 1 + seed % 4, seed) for seed in range(24)]
+    return tuple(machines)
+
+
+@lru_cache(maxsize=None)
+def great_machines():
+    """Machines with seven or eight standings."""
+    machines = [turning(8), turning(7, 4), turning(8, 4), resetting(8, 4), staying(8), strewn(8, 1, 2), strewn(8, 2, 7)]
+    machines += [beside(turning(2), turning(4)), beside(beside(turning(2), turning(2)), turning(2))]
+    machines += [leading(*[(max(at - 1, 0),) for at in range(8)]), leading(*[((at * 2) % 8, at // 2) for at in range(8)])]
+    return tuple(machines)
+
+
+def together(parting):
+    """The pairs of standings that are together, found from the numbers alone."""
+    places = range(len(parting))
+    return {(one, far) for one in places for far in places if parting[one] == parting[far]}
+
+
+@lru_cache(maxsize=None)
+def plain_kept(machine):
+    """The kept partings, found by a trial of all partings by the words of the document."""
+    table, _ = machine
+    return tuple(
+        parting for parting in all_partings(machine)
+        if all(parting[goal] == parting[led] for one, far in together(parting)
+               for goal, led in zip(table[one], table[far]))
+    )
+
+
+def spots(value):
+    """Each place in tuples within tuples: the numbers of the items on the way there."""
+    found = [()]
+    if isinstance(value, tuple):
+        found += [(at, *rest) for at, item in enumerate(value) for rest in spots(item)]
+    return found
+
+
+def at_spot(value, spot):
+    for at in spot:
+        value = value[at]
+    return value
+
+
+def changed(value, spot, thing):
+    """The value with another thing at a place."""
+    if not spot:
+        return thing
+    at, *rest = spot
+    return (*value[:at], changed(value[at], rest, thing), *value[at + 1:])
+
+
+def misshapen(value):
+    """The value with one thing at one place that is of a kind, or out of bounds, such as can stand nowhere."""
+    for spot in spots(value):
+        there = at_spot(value, spot)
+        wrongs = ODD + [8, 9]
+        if isinstance(there, tuple):
+            wrongs.append(list(there))
+        elif there in (0, 1):
+            wrongs.append(bool(there))
+        for wrong in wrongs:
+            yield changed(value, spot, wrong)
+
+
+def otherwise(value):
+    """The value, tuples of numbers, with another number at one place, or with an item more or less in one tuple."""
+    for spot in spots(value):
+        there = at_spot(value, spot)
+        if isinstance(there, tuple):
+            others = [there[:at] + there[at + 1:] for at in range(len(there))]
+            others += [there[:at] + there[at:at + 1] + there[at:] for at in range(len(there))]
+        else:
+            others = [number for number in range(8) if number != there]
+        for other in others:
+            yield changed(value, spot, other)
 
 
 def bad_machines():

@@ -38,6 +38,9 @@ INTERFACE = {
     "partings": {
         "is_parting", "single", "whole", "blocks", "is_finer", "meet", "join", "all_partings",
     },
+    "kept": {"is_kept", "drawn", "least_kept", "kept_partings", "led_table", "chain", "is_chain"},
+    "rows": {"row_of", "is_row", "front_parting", "least_rear"},
+    "sides": {"sides_of", "are_sides", "side_partings", "is_split", "split_paper", "check_split"},
 }
 
 

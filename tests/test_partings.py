@@ -3,15 +3,9 @@ from itertools import product
 
 from keptpartings.errors import BadMachine, BadParting
 from keptpartings.partings import all_partings, blocks, is_finer, is_parting, join, meet, single, whole
-from tests.samples import FOUR, ODD, ONE, SIX, Checks, bad_machines, turning
+from tests.samples import FOUR, ODD, ONE, SIX, Checks, bad_machines, together, turning
 
 MANY = [1, 2, 5, 15, 52, 203, 877, 4140]
-
-
-def together(parting):
-    """The pairs of standings that are together, found from the numbers alone."""
-    places = range(len(parting))
-    return {(one, far) for one in places for far in places if parting[one] == parting[far]}
 
 
 def drawn_on(pairs):
