@@ -2,29 +2,38 @@
 
 from keptpartings.errors import BadNumber, BadParting
 from keptpartings.machines import are_numbers_below, is_tuple_of, is_word, need_machine, need_standing, run
-from keptpartings.partings import all_partings, need_parting, numbered, put_together, single
+from keptpartings.partings import all_partings, is_parting, need_parting, numbered, put_together, single
 from keptpartings.ways import pair_words, shortest_ways
 
 
-def led_rows(table, parting):
-    """Where the letters lead from each block of a parting; None if the parting is not kept."""
+def led_blocks(table, parting, other):
+    """For each block of a parting the blocks of another one that the letters lead it to; None if they tear it."""
     rows = {}
     for standing, block in enumerate(parting):
-        row = tuple([parting[goal] for goal in table[standing]])
+        row = tuple([other[goal] for goal in table[standing]])
         if rows.setdefault(block, row) != row:
             return None
     # Blocks are numbered as they come, so the rows have come in the order of their numbers.
     return tuple(rows.values())
 
 
+def led_rows(table, parting):
+    """Where the letters lead from each block of a parting; None if the parting is not kept."""
+    return led_blocks(table, parting, parting)
+
+
+def put_goals_together(table, parting, names):
+    """Names for standings that give one name to all that a letter leads to from standings of one block."""
+    for standing, block in enumerate(parting):
+        for goal, first_goal in zip(table[standing], table[parting.index(block)]):
+            names = put_together(names, goal, first_goal)
+    return names
+
+
 def closed(table, parting):
     """The finest kept parting than which a parting is finer."""
     while led_rows(table, parting) is None:
-        names = parting
-        for standing, block in enumerate(parting):
-            for goal, first_goal in zip(table[standing], table[parting.index(block)]):
-                names = put_together(names, goal, first_goal)
-        parting = numbered(names)
+        parting = numbered(put_goals_together(table, parting, parting))
     return parting
 
 
@@ -53,9 +62,14 @@ def kept_partings(machine):
     return tuple([parting for parting in all_partings(machine) if led_rows(machine[0], parting) is not None])
 
 
+def is_kept_parting(machine, value):
+    """Whether any value is a kept parting."""
+    return is_parting(machine, value) and led_rows(machine[0], value) is not None
+
+
 def need_kept(machine, parting):
     """Refuses what is no kept parting of a machine, and first what is no machine."""
-    if not is_kept(machine, parting):
+    if not is_kept_parting(machine, parting):
         raise BadParting(parting)
 
 

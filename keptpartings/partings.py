@@ -43,6 +43,12 @@ def common_meet(partings):
     return numbered(list(zip(*partings)))
 
 
+def is_within(parting, other):
+    """Whether a parting is finer than another one."""
+    # It is exactly if the other one parts nothing more.
+    return common_meet([parting, other]) == parting
+
+
 def single(machine):
     """The parting that has each standing by itself."""
     need_machine(machine)
@@ -66,8 +72,9 @@ def blocks(machine, parting):
 
 def is_finer(machine, parting, other):
     """Whether what is together in a parting is together in the other, too."""
-    # A parting is finer exactly if the other one parts nothing more.
-    return meet(machine, parting, other) == parting
+    need_parting(machine, parting)
+    need_parting(machine, other)
+    return is_within(parting, other)
 
 
 def meet(machine, parting, other):

@@ -1,9 +1,9 @@
 """Machines side by side that know nothing of one another, and papers on whether there are such ones."""
 
 from keptpartings.errors import Alone, BadNumber, BadPaper, BadRow
-from keptpartings.kept import chain, drawn, is_chain, is_kept, led_table
+from keptpartings.kept import chain, drawn, is_chain, is_kept_parting, led_table
 from keptpartings.machines import are_numbers_below, is_table, is_tuple_of, need_machine
-from keptpartings.partings import common_meet, is_parting, meet, numbered, single
+from keptpartings.partings import common_meet, meet, numbered, single
 from keptpartings.rows import are_places
 
 MOST_SIDES = 4
@@ -25,11 +25,6 @@ def part_all(machine, value):
     if not all([is_kept_parting(machine, thing) for thing in value]):
         return False
     return common_meet(value) == single(machine)
-
-
-def is_kept_parting(machine, value):
-    """Whether any value is a kept parting."""
-    return is_parting(machine, value) and is_kept(machine, value)
 
 
 def are_sides(machine, value):

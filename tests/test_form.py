@@ -41,6 +41,9 @@ INTERFACE = {
     "kept": {"is_kept", "drawn", "least_kept", "kept_partings", "led_table", "chain", "is_chain"},
     "rows": {"row_of", "is_row", "front_parting", "least_rear"},
     "sides": {"sides_of", "are_sides", "side_partings", "is_split", "split_paper", "check_split"},
+    "ladders": {"needs", "longest_ladder", "width", "width_paper", "check_width"},
+    "knowing": {"is_pair", "next_of", "before", "letters_alike"},
+    "codes": {"is_code", "lots", "cost", "hangs", "best_code"},
 }
 
 
