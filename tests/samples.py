@@ -44,6 +44,11 @@ def staying(standings, letters=1):
     return leading(*[(at,) * letters for at in range(standings)])
 
 
+def showing(machine, *shown):
+    """The machine with other figures that are shown."""
+    return (machine[0], shown)
+
+
 def beside(machine, other):
     """The machine made of two with as many letters, side by side."""
     many = len(other[0])

@@ -28,7 +28,7 @@ BARRED = set(
     "copyright credits delattr dir eval exec exit gc getattr globals hasattr help id importlib license locals "
     "methodcaller os quit setattr type vars sys typing enum format format_map chr frozenset".split()
 )
-NOT_FREE = BARRED | {name for name in dir(builtins) if not name.startswith("__")}
+NOT_FREE = BARRED | {name for name in dir(builtins) if not name.startswith("_")}
 INTERFACE = {
     "errors": {
         "PartError", "BadMachine", "BadWord", "BadParting", "BadStanding", "BadRow", "BadCode", "BadNumber",
@@ -44,6 +44,10 @@ INTERFACE = {
     "ladders": {"needs", "longest_ladder", "width", "width_paper", "check_width"},
     "knowing": {"is_pair", "next_of", "before", "letters_alike"},
     "codes": {"is_code", "lots", "cost", "hangs", "best_code"},
+    "shown": {"tells", "alike", "parting_word", "least_machine"},
+    "bench": {"Bench", "under"},
+    "texts": {"machine_text", "parting_text", "row_text", "read_machine", "read_parting"},
+    "desk": {"Desk"},
 }
 
 
@@ -153,7 +157,8 @@ class Form(unittest.TestCase):
                 self.assertNotIn(name, NOT_FREE, place)
             if isinstance(node, ast.Name):
                 self.assertFalse(node.id.startswith("__"), place)
-                if node.id in dir(builtins):
+                # Other tests may have left _ among the builtins, as an interpreter does that prints.
+                if node.id != "_" and node.id in dir(builtins):
                     self.assertIn(node.id, BUILTINS, place)
                 self.assertNotIn(node.id, BARRED, place)
             if isinstance(node, ast.Attribute):
